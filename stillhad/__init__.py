@@ -1,0 +1,1 @@
+"""Stillhad: amounts, deeds without order, and what can still be had."""

@@ -1,0 +1,158 @@
+"""What the tests share: the books of the document, odd values, random things, and plain fractions."""
+
+from fractions import Fraction
+from random import Random
+
+NOUGHT, HALF, ONE, TWO, ENDLESS = (0, 1), (1, 2), (1, 1), (2, 1), (1, 0)
+FORK = (4, (((1, 0, 0, 0), (0, 1, 0, 0)), ((1, 0, 0, 0), (0, 0, 1, 0)), ((0, 1, 1, 0), (0, 0, 0, 1))))
+TOOL = (3, (((1, 1, 0), (0, 1, 1)),))
+GROW = (2, (((1, 0), (1, 2)),))
+SPRING = (1, (((0,), (1,)),))
+SINK = (2, (((1, 0), (0, 0)),))
+BARE = (2, ())
+WISH = (0, 0, 0, 1)
+FILL = (TWO, NOUGHT, NOUGHT, NOUGHT)
+
+# Values of which none is a number, a tuple of anything that is asked for, or a string of use.
+ODD = (None, True, "", "0", 1, -1, [], (), [0], (0,), ((),), {"a": 1}, object())
+
+
+def fields(error):
+    """All fields of an error, in their order."""
+    return tuple(vars(error).values())
+
+
+def fraction(pair):
+    return Fraction(pair[0], pair[1])
+
+
+def pair(number):
+    number = Fraction(number)
+    return (number.numerator, number.denominator)
+
+
+def fractions(fill):
+    return [fraction(amount) for amount in fill]
+
+
+def pairs(numbers):
+    return tuple(pair(number) for number in numbers)
+
+
+def tells(row, numbers):
+    """What a row tells at numbers, as a fraction; None for endless."""
+    result = Fraction(0)
+    for price, number in zip(row, numbers):
+        if number == 0:
+            continue
+        if price == ENDLESS:
+            return None
+        result += fraction(price) * number
+    return result
+
+
+def at_most(one, other):
+    """Whether one is at most other, None being endless."""
+    return other is None or (one is not None and one <= other)
+
+
+def moved(amounts, deed, times):
+    take, give = deed
+    return [amount + times * (more - gone) for amount, gone, more in zip(amounts, take, give)]
+
+
+def walked(book, fill, run):
+    """All fills on the way of a run, turn by turn, or the place where it sticks."""
+    amounts = fractions(fill)
+    way = [amounts]
+    for lap, (turns, steps) in enumerate(run):
+        for turn in range(turns):
+            for step, (deed, times) in enumerate(steps):
+                take = book[1][deed][0]
+                if any(amount < fraction(times) * gone for amount, gone in zip(amounts, take)):
+                    return (lap, turn, step)
+                amounts = moved(amounts, book[1][deed], fraction(times))
+                way.append(amounts)
+    return way
+
+
+def can_be_done(book, fill, run):
+    """Whether a run can be done, by its first and last turns alone (G1); and its end."""
+    amounts = fractions(fill)
+    for turns, steps in run:
+        begin = amounts
+        behind = list(begin)
+        for deed, times in steps:
+            behind = moved(behind, book[1][deed], fraction(times))
+        moves = [after - before for before, after in zip(begin, behind)]
+        for first in (begin, [amount + (turns - 1) * move for amount, move in zip(begin, moves)]):
+            now = first
+            for deed, times in steps:
+                take = book[1][deed][0]
+                if any(amount < fraction(times) * gone for amount, gone in zip(now, take)):
+                    return (False, None)
+                now = moved(now, book[1][deed], fraction(times))
+        amounts = [amount + turns * move for amount, move in zip(begin, moves)]
+    return (True, pairs(amounts))
+
+
+def supported(fill):
+    return tuple(ware for ware, amount in enumerate(fill) if amount[0] > 0)
+
+
+def closed(book, lot):
+    """The closed lot from a lot, most plainly."""
+    now = set(lot)
+    changed = True
+    while changed:
+        changed = False
+        for take, give in book[1]:
+            if all(ware in now for ware, number in enumerate(take) if number):
+                gives = {ware for ware, number in enumerate(give) if number}
+                if not gives <= now:
+                    now |= gives
+                    changed = True
+    return tuple(sorted(now))
+
+
+def some_books(many, seed, wares=5, deeds=6, top=3):
+    """Small books with many noughts, the same for the same seed."""
+    chance = Random(seed)
+    for _ in range(many):
+        size = chance.randint(1, wares)
+
+        def numbers():
+            return tuple(chance.randint(1, top) if chance.random() < 0.35 else 0 for _ in range(size))
+
+        yield (size, tuple((numbers(), numbers()) for _ in range(chance.randint(0, deeds))))
+
+
+def some_fill(chance, size, top=6):
+    return pairs(
+        Fraction(chance.randint(1, top), chance.randint(1, 4)) if chance.random() < 0.6 else 0
+        for _ in range(size))
+
+
+def some_run(chance, book, laps=3, turns=4, steps=3, bottom=8):
+    if not book[1]:
+        return ()
+    return tuple(
+        (chance.randint(1, turns), tuple(
+            (chance.randrange(len(book[1])), pair(Fraction(chance.randint(1, 4), chance.randint(1, bottom))))
+            for _ in range(chance.randint(1, steps))))
+        for _ in range(chance.randint(0, laps)))
+
+
+def ends_of(book):
+    return [ware for ware in range(book[0]) if not any(take[ware] for take, give in book[1])]
+
+
+def some_wish(chance, book):
+    """A wish of the book, None if it has no end ware."""
+    ends = ends_of(book)
+    if not ends:
+        return None
+    sure = chance.choice(ends)
+    return tuple(
+        chance.randint(1, 3) if ware == sure else (chance.randint(0, 2) if ware in ends else 0)
+        for ware in range(book[0]))
