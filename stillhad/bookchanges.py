@@ -2,7 +2,7 @@
 
 from stillhad.bookchecker import is_book
 from stillhad.books import within_of
-from stillhad.judging import is_numbers, is_order, is_whole, need, need_deed, need_lot
+from stillhad.judging import is_numbers, is_order, is_whole, need, need_deed
 
 
 def with_deed(book, take, give):
@@ -28,7 +28,6 @@ def with_all(book, other):
 
 def kept_to(book, lot):
     """The book of the deeds within the lot."""
-    need_lot(book, lot)
     return (book[0], tuple([book[1][place] for place in within_of(book, lot)]))
 
 

@@ -1,27 +1,22 @@
 """Closings to lots, and runs that end exactly at a fill."""
 
 from stillhad.bookchanges import turned_about
-from stillhad.judging import is_above, need, need_fill, need_lot
 from stillhad.openings import lets_opening, opening_of, opening_run
 from stillhad.running import end_of
 
 
 def closing_of(book, lot):
     """Any closing to the lot."""
-    need_lot(book, lot)
     return opening_of(turned_about(book), lot)
 
 
 def lets_closing(book, lot, thing):
     """Check that thing is a closing to the lot; all wares but the greatest trap among those outside the lot."""
-    need_lot(book, lot)
     return lets_opening(turned_about(book), lot, thing)
 
 
 def closing_run(book, fill, near):
     """Any pair (begin, run): a fill as near, and a run from it that ends exactly at the fill."""
-    need_fill(book, fill)
-    need(is_above(near), "near")
     turned = turned_about(book)
     away = opening_run(turned, fill, near)
     # What a step of the book turned about undoes, the deed itself does again.

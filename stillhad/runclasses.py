@@ -2,10 +2,10 @@
 
 from stillhad.arithmetic import NOUGHT
 from stillhad.bookchecker import is_book
-from stillhad.judging import is_above, need, need_deed, need_fill
+from stillhad.judging import need, need_fill
 from stillhad.rests import at_rest
 from stillhad.rowsums import fill_plus
-from stillhad.runkinds import flux_of, need_run
+from stillhad.runkinds import flux_of
 from stillhad.running import end_of
 from stillhad.stepping import after_step, can_do, most_times
 
@@ -30,14 +30,11 @@ class Shelf:
 
     def do(self, deed, times):
         """Do the step (deed, times)."""
-        need_deed(self._book, deed)
-        need(is_above(times), "times")
         behind = after_step(self._book, self._fill, deed, times)
         self._keep(behind, ((1, ((deed, times),)),))
 
     def go(self, run):
         """Do the run."""
-        need_run(self._book, run)
         behind = end_of(self._book, self._fill, run)
         self._keep(behind, run)
 

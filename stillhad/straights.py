@@ -3,7 +3,7 @@
 from stillhad.arithmetic import reduced, tops_over
 from stillhad.judging import need, need_fill, need_flux
 from stillhad.rowsums import support_of
-from stillhad.stepping import amounts_by, lacking_in
+from stillhad.stepping import amounts_by
 
 
 def is_straight(book, fill, flux):
@@ -11,10 +11,8 @@ def is_straight(book, fill, flux):
     need_fill(book, fill)
     need_flux(book, flux)
     behind = amounts_by(book, fill, flux)[1]
-    taken = taken_by(book, flux)
-    if lacking_in(behind) != ():
-        return False
-    return all([fill[ware][0] > 0 and behind[ware] > 0 for ware in taken])
+    # What is not taken can't be lacking, so what is taken tells of all wares.
+    return all([fill[ware][0] > 0 and behind[ware] > 0 for ware in taken_by(book, flux)])
 
 
 def taken_by(book, flux):
@@ -25,7 +23,6 @@ def taken_by(book, flux):
 
 def straight_run(book, fill, flux):
     """Any run that can be done at the fill and has just this flux, which is straight."""
-    need_fill(book, fill)
     need(is_straight(book, fill, flux), "flux")
     deeds = support_of(flux)
     if deeds == ():

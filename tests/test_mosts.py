@@ -18,7 +18,7 @@ from stillhad.runfors import run_for
 from stillhad.runkinds import is_run
 from stillhad.wishes import worth_of
 from tests.helpers import (
-    BARE, ENDLESS, FILL, FORK, GROW, HALF, NOUGHT, ODD, ONE, SPRING, TOOL, TWO, WISH, at_most, can_be_done, closed,
+    BARE, ENDLESS, FILL, FORK, GROW, HALF, NOUGHT, ODD, ONE, SINK, SPRING, TOOL, TWO, WISH, at_most, can_be_done, closed,
     fields, fraction, fractions, moved, pair, some_books, some_fill, some_wish, supported, tells)
 
 FIRST = (ONE, NOUGHT, ONE, ONE)
@@ -250,6 +250,7 @@ class FluxPaperTest(unittest.TestCase):
                 self.refused(((1, 0, 2), flux), "flux", -1, check=check)
             self.refused(((), (NOUGHT, ONE, ONE)), "within", 1, fill=(NOUGHT, ONE, NOUGHT, NOUGHT), check=check)
             self.refused(((), (NOUGHT, NOUGHT, ONE)), "within", 2, fill=(NOUGHT, ONE, NOUGHT, NOUGHT), check=check)
+            self.refused(((), (ONE,)), "within", 0, SINK, (0, 1), (NOUGHT, ONE), check)
         self.refused(((2,), (NOUGHT, NOUGHT, TWO)), "lacks", 1, fill=(NOUGHT, ONE, ONE, NOUGHT))
         self.refused(((2,), (NOUGHT, NOUGHT, TWO)), "lacks", 2, fill=(NOUGHT, TWO, ONE, NOUGHT))
         self.assertEqual(lets_flux(FORK, WISH, FILL, ((0, 1, 2), (NOUGHT,) * 3)), NOUGHT)

@@ -2,6 +2,7 @@
 
 import importlib
 import unittest
+from copy import deepcopy
 from itertools import combinations
 
 from stillhad.bookclasses import Book
@@ -131,29 +132,27 @@ CASES = (
     ("fluxpapers", "lets_flux", {"book": FORK, "thing": ((1, 0, 2), (NOUGHT,) * 3)},
      (("wish", "wish", WISH), ("fill", "fill", FILL))),
     ("endlesspapers", "endless_paper", {"book": FORK}, (("wish", "wish", WISH), ("fill", "fill", FILL))),
+    ("endlesspapers", "lets_endless", {"book": FORK, "thing": ((1, 0, 2), (NOUGHT,) * 3)},
+     (("wish", "wish", WISH), ("fill", "fill", FILL))),
     ("runfors", "run_for", {"book": FORK},
      (("wish", "wish", WISH), ("fill", "fill", FILL), ("worth", "quotient", HALF))),
 )
 
 
-def case_of(call, given, judged):
-    return (call, given, judged)
-
-
 def all_cases():
     for file, name, given, judged in CASES:
-        yield case_of(getattr(importlib.import_module("stillhad." + file), name), given, judged)
-    yield case_of(Book, {}, (("size", "many", 4),))
+        yield getattr(importlib.import_module("stillhad." + file), name), given, judged
+    yield Book, {}, (("size", "many", 4),)
     book = Book(*(FORK[0], *FORK[1]))
-    yield case_of(book.change, {}, (("deed", "deed", 0),))
-    yield case_of(book.takers, {}, (("ware", "ware", 0),))
-    yield case_of(book.with_deed, {}, (("take", "numbers", WISH), ("give", "numbers", WISH)))
-    yield case_of(Shelf, {}, (("book", "book", FORK), ("fill", "fill", FILL)))
+    yield book.change, {}, (("deed", "deed", 0),)
+    yield book.takers, {}, (("ware", "ware", 0),)
+    yield book.with_deed, {}, (("take", "numbers", WISH), ("give", "numbers", WISH))
+    yield Shelf, {}, (("book", "book", FORK), ("fill", "fill", FILL))
     shelf = Shelf(FORK, (TWO, TWO, TWO, TWO))
-    yield case_of(shelf.can, {}, (("deed", "deed", 0),))
-    yield case_of(shelf.most, {}, (("deed", "deed", 0),))
-    yield case_of(shelf.do, {}, (("deed", "deed", 0), ("times", "above", (1, 100))))
-    yield case_of(shelf.go, {}, (("run", "run", ()),))
+    yield shelf.can, {}, (("deed", "deed", 0),)
+    yield shelf.most, {}, (("deed", "deed", 0),)
+    yield shelf.do, {}, (("deed", "deed", 0), ("times", "above", (1, 100)))
+    yield shelf.go, {}, (("run", "run", ()),)
 
 
 class ParametersTest(unittest.TestCase):
@@ -173,6 +172,21 @@ class ParametersTest(unittest.TestCase):
             except HadError:
                 pass
 
+    def test_twice(self):
+        for call, given, judged in all_cases():
+            if getattr(call, "__name__", "") in ("do", "go"):
+                continue
+            values = {**given, **{name: good for name, kind, good in judged}}
+            before = deepcopy(values)
+            told = []
+            for _ in range(2):
+                try:
+                    told.append(call(**values))
+                except HadError as error:
+                    told.append((error.__class__, fields(error)))
+            self.assertEqual(told[0], told[1], call)
+            self.assertEqual(values, before)
+
     def test_each(self):
         for call, given, judged in all_cases():
             good = {**given, **{name: one for name, kind, one in judged}}
@@ -185,6 +199,38 @@ class ParametersTest(unittest.TestCase):
             good = {**given, **{name: one for name, kind, one in judged}}
             for (name, kind, _), (later, more, _) in combinations(judged, 2):
                 self.refused(name, call, {**good, name: BAD[kind][0], later: BAD[more][0]})
+
+    def test_without_deeds(self):
+        # Where no deed asks for the fill, it is judged all the same.
+        wish, fill = (0, 1), (ONE, ONE)
+        for file, name, judged in (
+                ("stepping", "fill_by", {"fill": fill, "flux": ()}),
+                ("running", "stuck_at", {"fill": fill, "run": ()}),
+                ("running", "end_of", {"fill": fill, "run": ()}),
+                ("running", "lowest_of", {"fill": fill, "run": ()}),
+                ("running", "worths_along", {"wish": wish, "fill": fill, "run": ()}),
+                ("rests", "at_rest", {"fill": fill}),
+                ("rests", "rest_run", {"fill": fill}),
+                ("openings", "opening_run", {"fill": fill, "near": ONE}),
+                ("closings", "closing_run", {"fill": fill, "near": ONE}),
+                ("openings", "opening_of", {"lot": (0,)}),
+                ("closings", "closing_of", {"lot": (0,)}),
+                ("lots", "closed_from", {"lot": (0,)}),
+                ("lots", "is_closed", {"lot": (0,)}),
+                ("traps", "is_trap", {"lot": (0,)}),
+                ("traps", "trap_within", {"lot": (0,)}),
+                ("straights", "is_straight", {"fill": fill, "flux": ()}),
+                ("straights", "straight_run", {"fill": fill, "flux": ()}),
+                ("mosts", "most_of", {"wish": wish, "fill": fill}),
+                ("pricekinds", "never_rises", {"row": fill}),
+                ("pricekinds", "never_falls", {"row": fill}),
+                ("runfors", "run_for", {"wish": wish, "fill": fill, "worth": ONE})):
+            call = getattr(importlib.import_module("stillhad." + file), name)
+            good = {"book": (2, ()), **judged}
+            call(**good)
+            for word in judged:
+                for bad in (None, ((1, 2),), (HALF,), [], 0):
+                    self.refused(word, call, {**good, word: bad})
 
     def test_sum_of_books(self):
         book = Book(*(FORK[0], *FORK[1]))
