@@ -41,17 +41,30 @@ def least_price(prices):
     return least
 
 
+def sum_of(prices):
+    """The sum of the prices."""
+    result = NOUGHT
+    for price in prices:
+        result = added(result, price)
+    return result
+
+
 def total(row, amounts):
     """The sum of price times amount, over all things."""
-    result = NOUGHT
-    for price, amount in zip(row, amounts):
-        result = added(result, multiplied(price, amount))
-    return result
+    return sum_of([multiplied(price, amount) for price, amount in zip(row, amounts)])
 
 
 def as_quotients(numbers):
     """The numbers as quotients."""
     return tuple([(number, 1) for number in numbers])
+
+
+def placed(many, places, quotients):
+    """So many quotients: these ones at these places, nought elsewhere."""
+    result = [NOUGHT] * many
+    for place, quotient in zip(places, quotients):
+        result[place] = quotient
+    return tuple(result)
 
 
 def common_bottom(quotients):

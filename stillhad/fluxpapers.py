@@ -39,6 +39,11 @@ def check_opened(book, fill, thing):
     if not is_pair(thing):
         raise InvalidPaper("shape", -1)
     opening, flux = thing
+    check_within(book, fill, opening, flux)
+
+
+def check_within(book, fill, opening, flux):
+    """Check an opening of the fill's support, and a flux within the closed lot from it."""
     lot = lets_opening(book, support_of(fill), opening)
     if not is_fill(len(book[1]), flux):
         raise InvalidPaper("flux", -1)

@@ -60,9 +60,19 @@ def need_fill(book, fill):
     need(is_fill(book[0], fill), "fill")
 
 
+def need_goal(book, goal):
+    """Refuse what is no fill of the book's size as a goal."""
+    need(is_fill(book[0], goal), "goal")
+
+
 def need_row(book, row):
     """Refuse what is no row of the book's size."""
     need(is_row(book[0], row), "row")
+
+
+def need_hands(book, hands):
+    """Refuse what is no lot of deeds of the book."""
+    need(is_lot(len(book[1]), hands), "hands")
 
 
 def need_flux(book, flux):

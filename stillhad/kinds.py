@@ -39,7 +39,11 @@ def is_row(size, thing):
 
 def is_lot(size, thing):
     """Whether thing is an ascending tuple of numbers below size."""
+    return is_ascending(thing) and (thing == () or thing[-1] < size)
+
+
+def is_ascending(thing):
+    """Whether thing is an ascending tuple of numbers."""
     if not (isinstance(thing, tuple) and all([is_number(ware) for ware in thing])):
         return False
-    grows = all([low < high for low, high in zip(thing, thing[1:])])
-    return grows and (not thing or thing[-1] < size)
+    return all([low < high for low, high in zip(thing, thing[1:])])

@@ -3,6 +3,7 @@
 from stillhad.arithmetic import as_quotients, is_less, total
 from stillhad.judging import need, need_deed, need_row
 from stillhad.kinds import is_row
+from stillhad.rowsums import first_above
 from stillhad.wishes import is_wish
 
 
@@ -27,7 +28,15 @@ def falls_at(deed, row):
 def never_rises(book, row):
     """Whether no deed makes the row tell more."""
     need_row(book, row)
-    return not any([rises_at(deed, row) for deed in book[1]])
+    return first_rise(book, row) is None
+
+
+def first_rise(book, row):
+    """The first deed at whose give the row tells more than at its take, None if there is none."""
+    for place, deed in enumerate(book[1]):
+        if rises_at(deed, row):
+            return place
+    return None
 
 
 def never_falls(book, row):
@@ -54,7 +63,4 @@ def is_price_row(book, wish, thing):
 
 def first_below(wish, row):
     """The first ware at which the row is below the wish, None if there is none."""
-    for ware, (number, price) in enumerate(zip(wish, row)):
-        if is_less(price, (number, 1)):
-            return ware
-    return None
+    return first_above(as_quotients(wish), row)

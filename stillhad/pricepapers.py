@@ -5,7 +5,7 @@ from stillhad.bestplans import best_flux
 from stillhad.errors import InvalidPaper
 from stillhad.judging import need, need_fill
 from stillhad.kinds import is_row
-from stillhad.pricekinds import first_below, rises_at
+from stillhad.pricekinds import first_below, first_rise
 from stillhad.wishes import is_wish
 
 
@@ -25,7 +25,12 @@ def lets_price(book, wish, fill, thing):
     ware = first_below(wish, thing)
     if ware is not None:
         raise InvalidPaper("below", ware)
-    for place, deed in enumerate(book[1]):
-        if rises_at(deed, thing):
-            raise InvalidPaper("rises", place)
+    check_rises(book, thing)
     return total(thing, fill)
+
+
+def check_rises(book, row):
+    """Check that the row never rises."""
+    deed = first_rise(book, row)
+    if deed is not None:
+        raise InvalidPaper("rises", deed)

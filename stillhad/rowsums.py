@@ -17,7 +17,15 @@ def all_times(one, factor):
 
 def nowhere_above(one, other):
     """Whether one is at no place above other."""
-    return not any([is_less(bound, price) for price, bound in zip(one, other)])
+    return first_above(one, other) is None
+
+
+def first_above(one, other):
+    """The first place at which one is above other, None if there is none."""
+    for place, (price, bound) in enumerate(zip(one, other)):
+        if is_less(bound, price):
+            return place
+    return None
 
 
 def priced(row, fill):

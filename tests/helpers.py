@@ -156,3 +156,64 @@ def some_wish(chance, book):
     return tuple(
         chance.randint(1, 3) if ware == sure else (chance.randint(0, 2) if ware in ends else 0)
         for ware in range(book[0]))
+
+
+def some_tariff(chance, many, rows=5, top=3, open_part=0.8):
+    """A tariff over so many things, maybe with needless rows, maybe empty."""
+    prices = [pair(Fraction(number, bottom)) for number in range(top + 1) for bottom in (1, 1, 2)]
+    return tuple(sorted({
+        tuple(chance.choice(prices) if chance.random() < open_part else ENDLESS for _ in range(many))
+        for _ in range(chance.randint(0, rows))}))
+
+
+def least_plainly(rows, fill):
+    """The least of the rows at a fill, a fraction, None for endless."""
+    least = None
+    for row in rows:
+        told = tells(row, fractions(fill))
+        if told is not None and (least is None or told < least):
+            least = told
+    return least
+
+
+def is_spot(rows, place, fill):
+    """Whether a fill is a spot of a row, by the words of the document."""
+    row = rows[place]
+    if [k for k, price in enumerate(row) if price != ENDLESS] != list(supported(fill)) or len(fill) != len(row):
+        return False
+    told = tells(row, fractions(fill))
+    rest = least_plainly(rows[:place] + rows[place + 1:], fill)
+    return rest is None or told < rest
+
+
+def is_mixture(rows, place, weights):
+    """Whether weights are a mixture of the other rows that is nowhere above a row, by the words of the document."""
+    if fraction(weights[place]) or sum(fractions(weights)) != 1 or len(weights) != len(rows):
+        return False
+    return all(
+        at_most(tells([row[k] for row in rows], fractions(weights)), None if bound == ENDLESS else fraction(bound))
+        for k, bound in enumerate(rows[place]))
+
+
+def limit_book(seed, deeds=8, top=100):
+    """A book at the limits of corners: seven wares, five of them taken at most, with tools and deeds that take nothing."""
+    chance = Random(seed)
+
+    def numbers(wares, most):
+        gone = chance.sample(range(wares), chance.randint(1, most))
+        return [chance.randint(1, top) if ware in gone else 0 for ware in range(7)]
+
+    made = []
+    for k in range(deeds):
+        take, give = numbers(5, 4), numbers(7, 3)
+        if k == 0 and seed % 3 == 0:
+            take = [0] * 7
+            give = [0] * 7 if seed % 2 else [0] * 5 + [1, 0]
+        if k < 3:
+            tool = chance.randrange(5)
+            take[tool] = give[tool] = 1
+        made.append((tuple(take), tuple(give)))
+    return (7, tuple(made))
+
+
+LIMIT_WISH = (0, 0, 0, 0, 0, 100, 7)

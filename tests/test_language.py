@@ -14,11 +14,11 @@ NODES = {
     "Break", "Pass", "Call", "Attribute", "Subscript", "Slice", "Tuple", "List", "Dict", "Starred", "keyword",
     "ListComp", "DictComp", "comprehension", "BoolOp", "And", "Or", "UnaryOp", "Not", "USub", "BinOp", "Add", "Sub",
     "Mult", "FloorDiv", "Mod", "Compare", "Eq", "NotEq", "Lt", "LtE", "Gt", "GtE", "Is", "IsNot", "In", "NotIn",
-    "IfExp", "JoinedStr", "FormattedValue", "Assert",
+    "IfExp", "BitAnd", "BitOr", "JoinedStr", "FormattedValue", "Assert",
 }
 BUILTINS = {
     "len", "range", "enumerate", "zip", "min", "max", "sum", "abs", "sorted", "reversed", "int", "str", "bool",
-    "list", "tuple", "dict", "isinstance", "ord", "repr", "any", "all", "divmod", "ValueError",
+    "list", "tuple", "dict", "isinstance", "ord", "repr", "any", "all", "divmod", "set", "ValueError",
 }
 METHODS = {
     "append", "copy", "count", "endswith", "extend", "find", "get", "index", "insert", "items", "join", "keys",
@@ -174,6 +174,14 @@ class LanguageTest(unittest.TestCase):
                     self.assertNotIn(node.attr, BARRED_NAMES)
                 if isinstance(node, ast.Call) and isinstance(node.func, ast.Name) and node.func.id in TAKERS:
                     self.assertFalse(any(isinstance(one, ast.GeneratorExp) for one in node.args))
+
+    def test_sets(self):
+        for path, tree in trees():
+            sets = [node for node in ast.walk(tree) if isinstance(node, ast.Name) and node.id == "set"]
+            sorts = [node for node in ast.walk(tree) if isinstance(node, ast.Call)
+                     and getattr(node.func, "id", "") == "sorted" and isinstance(node.args[0], ast.Call)
+                     and getattr(node.args[0].func, "id", "") == "set"]
+            self.assertEqual(len(sets), len(sorts), path.name)
 
     def test_kept_things(self):
         for path, tree in trees():
