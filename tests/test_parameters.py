@@ -7,10 +7,17 @@ from itertools import combinations
 
 from stillhad.bookclasses import Book
 from stillhad.errors import BookError, HadError, NotUsable
+from stillhad.mostclasses import Mosts
 from stillhad.runclasses import Shelf
+from stillhad.shareclasses import Share
+from stillhad.tariffclasses import Tariff
 from tests.helpers import ENDLESS, FILL, FORK, HALF, NOUGHT, ONE, TWO, WISH, fields
 
 RUN = ((2, ((0, HALF), (1, HALF))),)
+ROWS = ((NOUGHT, TWO), (TWO, NOUGHT))
+SPLIT = ((3, (((1, 0, 0), (0, 1, 0)), ((1, 0, 0), (0, 0, 1)))), (0,), (1, 2))
+PAIR = ((2, ((0, HALF),)),)
+PLAIN = (4, (((1, 0, 0, 0), (0, 0, 0, 1)),))
 NOT_QUOTIENTS = ((2, 4), (0, 2), (1, 0), (0, 0), (-1, 2), (1, -2), (True, 1), (1, True), (1,), (1, 1, 1), [1, 1],
                  ("1", 1), 1, None, "1", ())
 NOT_PRICES = ((2, 0), (0, 0), (2, 4), (-1, 0), (True, 0), (1, False), (1,), (1, 0, 0), [1, 0], None, "oo", ())
@@ -53,6 +60,23 @@ BAD["smaller"] = bent((ONE, NOUGHT), NOT_QUOTIENTS + (ONE,))
 BAD["two"] = bent((ONE, NOUGHT), NOT_QUOTIENTS)
 BAD["two prices"] = bent((ONE, NOUGHT), NOT_PRICES)
 BAD["less"] = NOT_QUOTIENTS + ((3, 1), (3, 2))
+BAD["below one"] = NOT_QUOTIENTS + (NOUGHT, ONE, TWO, (10 ** 6 + 1, 10 ** 6))
+BAD["closed"] = BAD["lot"] + ((0,), (1, 2), (0, 1, 2))
+BAD["hands"] = ([0], (1, 0), (0, 0), (3,), (-1,), (True,), ("0",), 0, None, "01", {0})
+BAD["place"] = (2, -1, True, False, None, "0", (0,), 10 ** 30)
+BAD["rows"] = (None, ROWS[::-1], list(ROWS), ROWS[:1] * 2, ROWS + (None,), ((ONE,),), ((),), 0, "", ((ONE, ONE), (ONE,)),
+               ([ONE, ONE],), ((ONE, (2, 2)),), (ONE, ONE))
+BAD["any rows"] = tuple(bad for bad in BAD["rows"] if bad not in (((ONE,),), ((),)))
+BAD["things"] = tuple(bad for bad in BAD["lot"] if bad != (4,)) + ((2,), (0, 2))
+BAD["take"] = BAD["numbers"] + [(0, 0, 0, 1)]
+BAD["in amounts"] = bent((ONE,), NOT_QUOTIENTS)
+BAD["out weights"] = bent((0, 1), (-1, True, None, "0", (0, 1))) + [(0, 0)]
+BAD["count"] = (-1, True, None, "1", (1,), [0])
+BAD["fork place"] = (3, -1, True, False, None, "0", (0,), 10 ** 30)
+BAD["tariffs"] = (None, [ROWS, ()], (ROWS,), (ROWS, ROWS, ROWS), (ROWS, None), (ROWS, ((ONE,),)), (ROWS, ROWS[::-1]), (),
+                  0)
+BAD["two places"] = ((0, 2), (0,), (0, 0), (0, 1, 2), [0, 1], (True, 0), (1, -1), None, 1, (0, None))
+BAD["one place"] = ((1,), (), (0, 0), [0], (False,), None, 0)
 
 # File, function, what is passed in as stated, and then parameter, kind and a good value of each judged one.
 CASES = (
@@ -136,6 +160,84 @@ CASES = (
      (("wish", "wish", WISH), ("fill", "fill", FILL))),
     ("runfors", "run_for", {"book": FORK},
      (("wish", "wish", WISH), ("fill", "fill", FILL), ("worth", "quotient", HALF))),
+    ("following", "follows", {"book": FORK}, (("fill", "fill", FILL), ("goal", "fill", FILL))),
+    ("following", "stretch_of", {"book": FORK}, (("fill", "fill", FILL), ("goal", "fill", FILL))),
+    ("following", "goal_run", {"book": FORK},
+     (("fill", "fill", FILL), ("goal", "fill", FILL), ("near", "below one", HALF))),
+    ("followpapers", "follow_paper", {"book": FORK}, (("fill", "fill", FILL), ("goal", "fill", FILL))),
+    ("followpapers", "lets_follow", {"book": FORK, "thing": None}, (("fill", "fill", FILL), ("goal", "fill", FILL))),
+    ("samebooks", "deed_follows", {"book": FORK}, (("take", "numbers", WISH), ("give", "numbers", WISH))),
+    ("samebooks", "says_same", {"book": FORK}, (("other", "same", FORK),)),
+    ("samebooks", "said_apart", {"book": FORK}, (("other", "same", FORK),)),
+    ("tariffkinds", "is_tariff", {"thing": ()}, (("many", "count", 0),)),
+    ("tariffkinds", "least_of", {"rows": ROWS}, (("fill", "two", (ONE, HALF)),)),
+    ("tariffkinds", "told_by", {"rows": ROWS}, (("fill", "two", (ONE, HALF)),)),
+    ("tariffkinds", "least_at", {"rows": ROWS}, (("row", "two prices", (ONE, ENDLESS)),)),
+    ("corners", "corners_of", {"book": FORK}, (("wish", "wish", WISH), ("lot", "closed", (1, 3)))),
+    ("corners", "corner_rows", {"book": FORK}, (("wish", "wish", WISH),)),
+    ("trimming", "is_needless", {"rows": ROWS}, (("place", "place", 1),)),
+    ("trimming", "mixture_of", {"rows": ROWS}, (("place", "place", 1),)),
+    ("trimming", "lets_mixture", {"rows": ROWS, "thing": None}, (("place", "place", 1),)),
+    ("spots", "spot_of", {"rows": ROWS}, (("place", "place", 1),)),
+    ("spots", "lets_spot", {"rows": ROWS, "thing": None}, (("place", "place", 1),)),
+    ("tariffs", "tariff_of", {"book": FORK}, (("wish", "wish", WISH),)),
+    ("tariffchecks", "lets_tariff", {"book": FORK, "thing": None}, (("wish", "wish", WISH),)),
+    ("partings", "tariffs_apart", {"rows": ROWS}, (("other", "rows", ROWS),)),
+    ("partings", "tariffs_apart", {"rows": ()}, (("other", "any rows", ((ONE,),)),)),
+    ("partings", "books_apart", {"book": FORK}, (("other", "same", FORK), ("wish", "wish", WISH))),
+    ("tariffsums", "tariff_plus", {"rows": ROWS}, (("other", "rows", ROWS),)),
+    ("tariffsums", "tariff_plus", {"rows": ()}, (("other", "any rows", ((ONE,),)),)),
+    ("tariffsums", "tariff_less", {"rows": ROWS}, (("other", "rows", ()),)),
+    ("tariffsums", "tariff_less", {"rows": ()}, (("other", "any rows", ((),)),)),
+    ("tariffsums", "tariff_times", {"rows": ROWS}, (("factor", "above", HALF),)),
+    ("tariffsums", "tariff_times", {"rows": ()}, (("factor", "above", HALF),)),
+    ("tariffsums", "tariff_beside", {"rows": ROWS}, (("other", "any rows", ((ONE,),)),)),
+    ("tariffsums", "tariff_beside", {"rows": ()}, (("other", "any rows", ((),)),)),
+    ("tariffsums", "cut_to", {"rows": ROWS}, (("lot", "things", (1,)),)),
+    ("putting", "put_in", {},
+     (("many", "count", 2), ("rows", "any rows", ROWS), ("tariffs", "tariffs", (ROWS, ())))),
+    ("tarifftexts", "read_tariff", {}, (("many", "count", 2), ("text", "text", "0 2"))),
+    ("sandwiches", "sandwich_of", {"book": FORK},
+     (("wish", "wish", WISH), ("hands", "hands", (0, 2)), ("place", "fork place", 2))),
+    ("sandwiches", "lets_sandwich", {"book": FORK, "thing": None},
+     (("wish", "wish", WISH), ("hands", "hands", ()), ("place", "fork place", 0))),
+    ("shares", "row_share", {"book": FORK},
+     (("wish", "wish", WISH), ("hands", "hands", (0, 1, 2)), ("place", "fork place", 1))),
+    ("shares", "share_table", {"book": FORK}, (("wish", "wish", WISH), ("hands", "hands", (0, 1)))),
+    ("shares", "sure_share", {"book": FORK}, (("wish", "wish", WISH), ("hands", "hands", ()))),
+    ("sharepapers", "share_paper", {"book": FORK}, (("wish", "wish", WISH), ("hands", "hands", (1,)))),
+    ("sharepapers", "lets_share", {"book": FORK, "thing": None}, (("wish", "wish", WISH), ("hands", "hands", (1,)))),
+    ("rights", "harmless_deeds", {"book": FORK}, (("wish", "wish", WISH),)),
+    ("rights", "is_right", {"book": FORK}, (("wish", "wish", WISH),)),
+    ("rights", "unkept", {"book": FORK}, (("wish", "wish", WISH),)),
+    ("losings", "losing_deed", {"book": FORK}, (("wish", "wish", WISH), ("hands", "hands", (0,)))),
+    ("losings", "mosts_by", {"book": FORK}, (("wish", "wish", WISH), ("fill", "fill", FILL), ("run", "run", PAIR))),
+    ("losingruns", "losing_run", {"book": FORK},
+     (("wish", "wish", WISH), ("hands", "hands", (0,)), ("near", "above", TWO))),
+    ("losingruns", "lets_losing", {"book": FORK, "thing": None},
+     (("wish", "wish", WISH), ("hands", "hands", (0,)), ("near", "above", HALF))),
+    ("restshares", "losing_rest", {"book": FORK}, (("wish", "wish", WISH), ("near", "above", HALF))),
+    ("restshares", "rests_alike", {"book": FORK}, (("wish", "wish", WISH),)),
+    ("additions", "lifts", {"book": FORK},
+     (("wish", "wish", WISH), ("take", "take", (0, 1, 0, 0)), ("give", "numbers", WISH))),
+    ("additions", "keeps_tariff", {"book": FORK},
+     (("wish", "wish", WISH), ("take", "take", (0, 1, 0, 0)), ("give", "numbers", WISH))),
+    ("additions", "added", {"book": FORK},
+     (("wish", "wish", WISH), ("take", "take", (0, 1, 0, 0)), ("give", "numbers", (0, 1, 0, 0)))),
+    ("additions", "put_together", {"book": PLAIN}, (("wish", "wish", WISH), ("other", "same", PLAIN))),
+    ("takers", "heard_deeds", {"book": FORK}, (("wish", "wish", WISH),)),
+    ("takers", "one_taker", {"book": FORK}, (("wish", "wish", WISH),)),
+    ("takers", "end_mosts", {"book": FORK}, (("fill", "fill", FILL),)),
+    ("takers", "had_together", {"book": FORK}, (("fill", "fill", FILL),)),
+    ("modules", "module_fill", {"module": SPLIT}, (("amounts", "in amounts", (HALF,)),)),
+    ("modules", "module_wish", {"module": SPLIT}, (("weights", "out weights", (0, 1)),)),
+    ("modules", "goal_fill", {"module": SPLIT}, (("goal", "weights", (HALF, NOUGHT)),)),
+    ("modules", "doors_turned", {"module": SPLIT},
+     (("in_order", "one place", (0,)), ("out_order", "two places", (1, 0)))),
+    ("doormosts", "door_most", {"module": SPLIT},
+     (("weights", "out weights", (2, 0)), ("amounts", "in amounts", (HALF,)))),
+    ("doormosts", "door_each", {"module": SPLIT}, (("amounts", "in amounts", (HALF,)),)),
+    ("doortariffs", "door_tariff", {"module": SPLIT}, (("door", "place", 1),)),
 )
 
 
@@ -153,6 +255,19 @@ def all_cases():
     yield shelf.most, {}, (("deed", "deed", 0),)
     yield shelf.do, {}, (("deed", "deed", 0), ("times", "above", (1, 100)))
     yield shelf.go, {}, (("run", "run", ()),)
+    yield Mosts, {}, (("book", "book", FORK), ("wish", "wish", WISH))
+    mosts = Mosts(FORK, WISH)
+    for call in (mosts.most, mosts.price, mosts.flux, mosts.endless):
+        yield call, {}, (("fill", "fill", FILL),)
+    yield mosts.run, {}, (("fill", "fill", FILL), ("worth", "quotient", HALF))
+    yield Share, {}, (("book", "book", FORK), ("wish", "wish", WISH), ("hands", "hands", (0,)))
+    share = Share(FORK, WISH, (0,))
+    yield share.sandwich, {}, (("place", "fork place", 2),)
+    yield share.lose, {}, (("near", "above", HALF),)
+    yield share.keeps, {}, (("take", "take", (0, 1, 0, 0)), ("give", "numbers", WISH))
+    yield Tariff(2, *ROWS).least, {}, (("fill", "two", (ONE, HALF)),)
+    yield Tariff(2, *ROWS).spot, {}, (("place", "place", 1),)
+    yield Tariff(2, *ROWS).cut, {}, (("lot", "things", (1,)),)
 
 
 class ParametersTest(unittest.TestCase):
@@ -224,7 +339,25 @@ class ParametersTest(unittest.TestCase):
                 ("mosts", "most_of", {"wish": wish, "fill": fill}),
                 ("pricekinds", "never_rises", {"row": fill}),
                 ("pricekinds", "never_falls", {"row": fill}),
-                ("runfors", "run_for", {"wish": wish, "fill": fill, "worth": ONE})):
+                ("runfors", "run_for", {"wish": wish, "fill": fill, "worth": ONE}),
+                ("following", "follows", {"fill": fill, "goal": fill}),
+                ("following", "stretch_of", {"fill": fill, "goal": fill}),
+                ("following", "goal_run", {"fill": fill, "goal": fill, "near": HALF}),
+                ("followpapers", "follow_paper", {"fill": fill, "goal": fill}),
+                ("samebooks", "deed_follows", {"take": wish, "give": wish}),
+                ("corners", "corners_of", {"wish": wish, "lot": (0,)}),
+                ("corners", "corner_rows", {"wish": wish}),
+                ("tariffs", "tariff_of", {"wish": wish}),
+                ("shares", "share_table", {"wish": wish, "hands": ()}),
+                ("sharepapers", "share_paper", {"wish": wish, "hands": ()}),
+                ("losings", "losing_deed", {"wish": wish, "hands": ()}),
+                ("losingruns", "losing_run", {"wish": wish, "hands": (), "near": ONE}),
+                ("restshares", "losing_rest", {"wish": wish, "near": ONE}),
+                ("restshares", "rests_alike", {"wish": wish}),
+                ("additions", "lifts", {"wish": wish, "take": (1, 0), "give": wish}),
+                ("additions", "added", {"wish": wish, "take": (0, 0), "give": (1, 0)}),
+                ("takers", "end_mosts", {"fill": fill}),
+                ("takers", "had_together", {"fill": fill})):
             call = getattr(importlib.import_module("stillhad." + file), name)
             good = {"book": (2, ()), **judged}
             call(**good)
