@@ -38,7 +38,7 @@ def added(book, wish, take, give):
 def put_together(book, wish, other):
     """The book with all deeds of other, both right for the wish with the same tariff."""
     need(is_wish(book, wish), "wish")
-    need(is_book(other) and other[0] == book[0] and is_wish(other, wish), "other")
+    need(is_book(other) and is_wish(other, wish), "other")
     need(is_right(book, wish) and is_right(other, wish), "other")
     need(tariff_of(book, wish) == tariff_of(other, wish), "other")
     return with_all(book, other)

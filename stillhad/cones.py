@@ -42,7 +42,7 @@ def kept_edges(edges, bound, bit, least):
     for edge, mark, side in inside:
         for other, its, away in outside:
             if are_beside(mark & its, marks, least):
-                kept.append((between(edge, side, other, -away), mark & its | bit))
+                kept.append((between(edge, side, other, -away), (mark & its) | bit))
     return kept
 
 

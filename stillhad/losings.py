@@ -1,7 +1,7 @@
 """Deeds that lower the most, and mosts before and behind a run."""
 
 from stillhad.arithmetic import ENDLESS, as_quotients, is_less, total
-from stillhad.judging import need, need_fill, need_hands
+from stillhad.judging import need, need_hands
 from stillhad.mosts import most_of
 from stillhad.quotients import over
 from stillhad.rights import unkept
@@ -46,6 +46,5 @@ def fill_before(deed, rows, place):
 def mosts_by(book, wish, fill, run):
     """The pair (most at the fill, most behind the run)."""
     need(is_wish(book, wish), "wish")
-    need_fill(book, fill)
     behind = end_of(book, fill, run)
     return (most_of(book, wish, fill), most_of(book, wish, behind))

@@ -5,7 +5,6 @@ from stillhad.judging import need
 from stillhad.tariffkinds import is_tariff_like
 from stillhad.tariffs import tariff_of
 from stillhad.undercuts import undercut
-from stillhad.wishes import is_wish
 
 
 def tariffs_apart(rows, other):
@@ -22,5 +21,4 @@ def tariffs_apart(rows, other):
 def books_apart(book, other, wish):
     """Any fill at which the mosts of the two books for the wish are unlike, None if there is none."""
     need(is_book(other) and other[0] == book[0], "other")
-    need(is_wish(book, wish) and is_wish(other, wish), "wish")
     return tariffs_apart(tariff_of(book, wish), tariff_of(other, wish))

@@ -1,10 +1,9 @@
 """Harmless deeds and right books."""
 
 from stillhad.books import end_wares
-from stillhad.judging import need
 from stillhad.pricekinds import told_at_deed
 from stillhad.tariffs import tariff_of
-from stillhad.wishes import is_wish, unit_wish
+from stillhad.wishes import unit_wish
 
 
 def harmless_deeds(book, wish):
@@ -20,7 +19,6 @@ def is_right(book, wish):
 
 def unkept(book, wish):
     """All pairs (deed, place) such that the deed does not keep the tariff's row at place, ascending."""
-    need(is_wish(book, wish), "wish")
     rows = tariff_of(book, wish)
     return tuple([
         (place, k) for place, deed in enumerate(book[1]) for k, row in enumerate(rows) if not is_kept(deed, row)])

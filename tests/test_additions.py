@@ -159,6 +159,11 @@ class TakersTest(unittest.TestCase):
     def test_ends(self):
         ring = (1, (((1,), (1,)),))
         self.assertEqual(end_mosts(ring, (TWO,)), ())
+        for call in (end_mosts, had_together):
+            for fill in (None, (), (ENDLESS,), [TWO], (TWO, TWO), ((2, 2),)):
+                with self.assertRaises(NotUsable) as caught:
+                    call(ring, fill)
+                self.assertEqual(fields(caught.exception), ("fill", -1))
         self.assertIs(had_together(ring, (TWO,)), True)
         self.assertEqual(end_mosts(BARE, (TWO, HALF)), (TWO, HALF))
         self.assertIs(had_together(BARE, (TWO, HALF)), True)

@@ -135,6 +135,23 @@ class FollowTest(unittest.TestCase):
             self.assertEqual(stretch[0] > 0, there)
         self.assertGreater(min(told), 100)
 
+    def test_large(self):
+        chance = Random(44)
+        told = [0, 0]
+        for size, many in ((8, 10), (8, 10), (8, 10), (12, 16), (18, 24), (18, 24)) * 3:
+            def numbers():
+                return tuple(chance.randint(1, 10 ** 6) if chance.random() < 0.25 else 0 for _ in range(size))
+            book = (size, tuple((numbers(), numbers()) for _ in range(many)))
+            fill = tuple(pair(Fraction(chance.randint(0, 10 ** 12), chance.randint(1, 10 ** 12))) for _ in range(size))
+            goal = tuple(pair(Fraction(chance.randint(0, 10 ** 6), chance.randint(1, 10 ** 6))) for _ in range(size))
+            stretch = stretch_of(book, fill, goal)
+            if stretch != ENDLESS:
+                goal = fill_times(goal, stretch)
+                self.refused(book, fill, fill_times(goal, (10 ** 6 + 1, 10 ** 6)))
+            told[self.shown(book, fill, goal)] += 1
+            self.done(book, fill, goal, (1, 10 ** 6))
+        self.assertEqual(told[0], 0)
+
     def test_consequences(self):
         chance = Random(42)
         for book, fill, goal in some_goals(200, 42):

@@ -75,6 +75,9 @@ BAD["count"] = (-1, True, None, "1", (1,), [0])
 BAD["fork place"] = (3, -1, True, False, None, "0", (0,), 10 ** 30)
 BAD["tariffs"] = (None, [ROWS, ()], (ROWS,), (ROWS, ROWS, ROWS), (ROWS, None), (ROWS, ((ONE,),)), (ROWS, ROWS[::-1]), (),
                   0)
+BAD["any fill"] = (None, 5, "", [ONE], {}) + tuple((ONE, one) for one in NOT_QUOTIENTS)
+BAD["any row"] = (None, 5, "", [ONE], {}) + tuple((ENDLESS, one) for one in NOT_PRICES)
+BAD["any lot"] = ([0], (1, 0), (0, 0), (-1,), (True,), ("0",), 0, None, "01")
 BAD["two places"] = ((0, 2), (0,), (0, 0), (0, 1, 2), [0, 1], (True, 0), (1, -1), None, 1, (0, None))
 BAD["one place"] = ((1,), (), (0, 0), [0], (False,), None, 0)
 
@@ -173,6 +176,10 @@ CASES = (
     ("tariffkinds", "least_of", {"rows": ROWS}, (("fill", "two", (ONE, HALF)),)),
     ("tariffkinds", "told_by", {"rows": ROWS}, (("fill", "two", (ONE, HALF)),)),
     ("tariffkinds", "least_at", {"rows": ROWS}, (("row", "two prices", (ONE, ENDLESS)),)),
+    ("tariffkinds", "least_of", {"rows": ()}, (("fill", "any fill", (ONE, HALF)),)),
+    ("tariffkinds", "told_by", {"rows": ()}, (("fill", "any fill", ()),)),
+    ("tariffkinds", "least_at", {"rows": ()}, (("row", "any row", (ENDLESS,)),)),
+    ("tariffsums", "cut_to", {"rows": ()}, (("lot", "any lot", (3, 10 ** 30)),)),
     ("corners", "corners_of", {"book": FORK}, (("wish", "wish", WISH), ("lot", "closed", (1, 3)))),
     ("corners", "corner_rows", {"book": FORK}, (("wish", "wish", WISH),)),
     ("trimming", "is_needless", {"rows": ROWS}, (("place", "place", 1),)),

@@ -32,6 +32,9 @@ from tests.helpers import (
     some_wish, supported, tells)
 
 HALVES = (2, (((1, 0), (0, 2)), ((1, 0), (0, 1))))
+# An egg, ware 2, becomes the tool, ware 1, or else what is wished: the tool stays for ever, but not the egg.
+EGG = (4, (((1, 1, 0, 0), (0, 1, 0, 1)), ((0, 0, 1, 0), (0, 1, 0, 0)), ((0, 0, 1, 0), (0, 0, 0, 1)),
+           ((2, 0, 0, 0), (0, 0, 0, 1))))
 NEARS = ((10 ** 6, 1), ONE, (1, 3), (1, 10 ** 6))
 SMALL = (1, 10 ** 6)
 
@@ -56,6 +59,7 @@ def lossy_books(many, seed):
 def some_hands(many, seed):
     """Books, wishes and hands, the same for the same seed."""
     chance = Random(seed)
+    yield EGG, WISH, (0, 1, 2, 3)
     for book in list(some_books(many, seed, wares=5, deeds=5)) + list(lossy_books(many, seed)):
         wish = some_wish(chance, book)
         if wish:
@@ -123,6 +127,13 @@ class SandwichTest(unittest.TestCase):
         self.refused(((NOUGHT, ONE), (ONE, NOUGHT, HALF)), "below", 2, TOOL, wish, (), 1)
         # A row that is endless at a price of nought adds nothing; at one above nought, it does.
         self.refused(((SMALL, ONE), (ONE, NOUGHT, ONE)), "below", 1, TOOL, wish, (0,), 1)
+
+    def test_egg(self):
+        # Neither the deed that gives the tool, nor the one that keeps it, asks anything of a row endless there.
+        self.assertEqual(tariff_of(EGG, WISH), ((ONE, NOUGHT, ONE, ONE), (HALF, ENDLESS, ENDLESS, ONE)))
+        self.assertEqual(share_table(EGG, WISH, (0, 1, 2, 3)), (NOUGHT, HALF))
+        self.assertEqual(share_table(EGG, WISH, (0, 1)), (NOUGHT, ONE))
+        self.assertEqual(share_table(EGG, WISH, (2,)), (ONE, HALF))
 
     def test_all(self):
         between = 0
@@ -403,12 +414,14 @@ class LosingTest(unittest.TestCase):
         deed, fill = losing_deed(worn, (0, 0, 1), (0, 1))
         self.assertEqual(deed, 1)
         self.assertTrue(less(most_of(worn, (0, 0, 1), after_step(worn, fill, 1, ONE)), most_of(worn, (0, 0, 1), fill)))
-        # A deed that gives much where the row is open is done once all the same.
-        rich = (3, (TOOL[1][0], ((0, 1, 0), (10 ** 6, 0, 50))))
-        found = losing_deed(rich, (0, 0, 1), (1,))
-        if found is not None:
-            behind = after_step(rich, found[1], 1, ONE)
-            self.assertTrue(less(most_of(rich, (0, 0, 1), behind), most_of(rich, (0, 0, 1), found[1])))
+        # What the deed gives is worth more by the row that it does not keep than by others: much must be lost besides.
+        rich = (4, (((0, 2, 2, 0), (0, 3, 2, 0)), ((1, 2, 0, 0), (0, 0, 0, 2))))
+        wide = (5, (((2, 0, 0, 0, 1), (0, 0, 3, 1, 1)), ((1, 2, 0, 0, 0), (0, 1, 3, 1, 0)),
+                    ((0, 0, 0, 0, 1), (0, 3, 0, 0, 0))))
+        for book, wish, one in ((rich, WISH, 1), (wide, (0, 0, 2, 1, 0), 2)):
+            deed, fill = losing_deed(book, wish, (one,))
+            self.assertEqual(deed, one)
+            self.assertTrue(less(most_of(book, wish, after_step(book, fill, deed, ONE)), most_of(book, wish, fill)))
 
 
 class RestShareTest(unittest.TestCase):
