@@ -35,8 +35,8 @@ def best_sandwich(book, hands, rows, place):
     plan, prices = best_plan(lines, limits, gains + [0] * len(wares))[1:]
     weights = [multiplied(part, (gain, bottom)) for part, gain in zip(plan, gains)]
     row = [ENDLESS] * book[0]
-    for ware, price in zip(wares, plan[len(able):]):
-        row[ware] = multiplied(price, (1, bottom))
+    for at, price in zip(wares, plan[len(able):]):
+        row[at] = multiplied(price, (1, bottom))
     flux = placed(len(book[1]), calm, prices[len(wares):])
     end = placed(book[0], things, prices[len(wares) + len(calm):])
     return ((placed(len(rows), able, weights), tuple(row)), flux, end)

@@ -55,5 +55,5 @@ class Share:
         return (self._book, self._wish, self._hands)
 
     def __eq__(self, other):
-        same = isinstance(other, Share) and self._book == other._book and self._wish == other._wish
-        return same and self._hands == other._hands
+        return (isinstance(other, Share) and self._book == other._book and self._wish == other._wish
+                and self._hands == other._hands)

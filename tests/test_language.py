@@ -34,6 +34,7 @@ BARRED_WORDS = re.compile(
     r"\b(type|typing|typing_extensions|enum|Enum|IntEnum|StrEnum|Flag|IntFlag|Generic|Protocol|ABC|ABCMeta|"
     r"namedtuple|NamedTuple|TypedDict|TYPE_CHECKING|abstractmethod)\b|dataclass|overload|contextmanager|_wall|_WallAttr")
 DOUBLE = {"__init__", "__eq__", "__len__", "__add__"}
+COMPREHENSIONS = (ast.ListComp, ast.DictComp)
 TAKERS = {"any", "all", "sum", "min", "max", "sorted", "tuple", "list"}
 
 
@@ -220,11 +221,34 @@ class LanguageTest(unittest.TestCase):
                 if isinstance(node, ast.Name):
                     self.assertNotRegex(node.id, BARRED_WORDS, path.name)
 
+    def test_double_underscore_methods(self):
+        for path, tree in trees():
+            for function in functions(tree):
+                if function.name in ("__eq__", "__len__"):
+                    self.assertEqual([type(node).__name__ for node in function.body], ["Return"], path.name)
+
     def test_names_in_comprehensions(self):
         for path, tree in trees():
             for function in functions(tree):
                 outer = {one.arg for one in ast.walk(function.args) if isinstance(one, ast.arg)}
                 self.check_inner(path, function, outer)
+                inner = self.names_of([node for node in ast.walk(function) if isinstance(node, COMPREHENSIONS)])
+                plain = [node for node in ast.walk(function) if isinstance(node, (ast.For, ast.Assign))]
+                bound = self.names_of(plain)
+                for node in ast.walk(function):
+                    if isinstance(node, COMPREHENSIONS):
+                        deep = [one for one in ast.walk(node) if isinstance(one, COMPREHENSIONS) and one is not node]
+                        self.assertFalse(self.names_of(deep) & bound, f"{path.name}:{node.lineno}")
+                self.assertFalse(inner & outer, path.name)
+
+    def names_of(self, nodes):
+        """All names that the targets of loops, assignments and comprehensions bind."""
+        found = set()
+        for node in nodes:
+            targets = [part.target for part in node.generators] if isinstance(node, COMPREHENSIONS) else (
+                node.targets if isinstance(node, ast.Assign) else [node.target])
+            found |= {one.id for target in targets for one in ast.walk(target) if isinstance(one, ast.Name)}
+        return found
 
     def check_inner(self, path, node, outer):
         for inner in ast.iter_child_nodes(node):
