@@ -59,6 +59,11 @@ def as_quotients(numbers):
     return tuple([(number, 1) for number in numbers])
 
 
+def numbers_at(many, numbers):
+    """So many numbers: at each place what numbers, a dict, has for it, 0 elsewhere."""
+    return tuple([numbers.get(place, 0) for place in range(many)])
+
+
 def placed(many, places, quotients):
     """So many quotients: these ones at these places, nought elsewhere."""
     result = [NOUGHT] * many

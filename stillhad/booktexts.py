@@ -15,3 +15,8 @@ def deed_text(take, give):
 def numbers_text(numbers):
     """The numbers, one blank between them."""
     return " ".join([str(number) for number in numbers])
+
+
+def wares_text(wares):
+    """The wares, one blank between them, or a dash."""
+    return numbers_text(wares) if wares else "-"

@@ -35,6 +35,11 @@ def is_numbers(many, thing):
     return isinstance(thing, tuple) and len(thing) == many and all([is_number(one) for one in thing])
 
 
+def is_weights(many, thing):
+    """Whether thing is a tuple of as many numbers, not all 0."""
+    return is_numbers(many, thing) and any([weight > 0 for weight in thing])
+
+
 def is_order(many, thing):
     """Whether thing is a tuple of all numbers below many, each once."""
     return is_numbers(many, thing) and sorted(thing) == list(range(many))

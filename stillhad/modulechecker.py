@@ -43,3 +43,13 @@ def door_fault(book, ins, outs):
 def is_module(thing):
     """Whether thing is a module."""
     return is_triple(thing) and is_book(thing[0]) and door_fault(thing[0], thing[1], thing[2]) is None
+
+
+def is_module_with(ins, outs, thing):
+    """Whether thing is a module with so many ins and outs."""
+    return is_module(thing) and len(thing[1]) == ins and len(thing[2]) == outs
+
+
+def is_module_like(module, thing):
+    """Whether thing is a module with as many ins and outs as the module."""
+    return is_module_with(len(module[1]), len(module[2]), thing)

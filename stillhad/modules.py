@@ -1,8 +1,8 @@
 """Modules, and what can be told of their doors."""
 
-from stillhad.arithmetic import placed
+from stillhad.arithmetic import numbers_at, placed
 from stillhad.errors import NotUsable
-from stillhad.judging import is_numbers, is_order, need
+from stillhad.judging import is_order, is_weights, need
 from stillhad.kinds import is_fill
 from stillhad.modulechecker import door_fault
 
@@ -33,9 +33,8 @@ def module_fill(module, amounts):
 def module_wish(module, weights):
     """The wish with the weights at the outs and 0 elsewhere."""
     book, ins, outs = module
-    need(is_numbers(len(outs), weights) and any([weight > 0 for weight in weights]), "weights")
-    at_outs = {ware: weight for ware, weight in zip(outs, weights)}
-    return tuple([at_outs.get(ware, 0) for ware in range(book[0])])
+    need(is_weights(len(outs), weights), "weights")
+    return numbers_at(book[0], {ware: weight for ware, weight in zip(outs, weights)})
 
 
 def goal_fill(module, goal):

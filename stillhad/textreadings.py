@@ -5,6 +5,9 @@ from stillhad.errors import InvalidRow, InvalidText
 from stillhad.judging import need
 from stillhad.textparts import cut_mark, is_numeral, is_price_word, is_quotient_word, price_of_word
 
+# Where a book's line may end.
+ENDS = ("end", "giving")
+
 
 def read_price(text):
     """The price whose price_text is text."""
@@ -46,22 +49,25 @@ def prices_of(fields, fits):
 def read_book(text):
     """The book whose book_line is text."""
     need(isinstance(text, str), "text")
-    fields = text.split(" ")
-    check_fields(fields)
+    check_fields(text, "size", state_behind, ENDS)
     book = book_in(text)
     if not is_book(book):
         raise InvalidRow(0)
     return book
 
 
-def check_fields(fields):
-    """Raise InvalidText for the first field that no book's line has there, or if it ends too soon."""
-    state = "size"
+def check_fields(text, begin, behind, ends):
+    """Raise InvalidText for the first field that no good text has there, or if it ends too soon.
+
+    What stands next is a state, at first begin; behind tells it from the one before and the word there.
+    """
+    fields = text.split(" ")
+    state = begin
     for k, word in enumerate(fields):
-        state = state_behind(state, word)
+        state = behind(state, word)
         if state == "wrong":
             raise InvalidText(0, k)
-    if state not in ("end", "giving"):
+    if state not in ends:
         raise InvalidText(0, len(fields))
 
 

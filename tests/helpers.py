@@ -217,3 +217,84 @@ def limit_book(seed, deeds=8, top=100):
 
 
 LIMIT_WISH = (0, 0, 0, 0, 0, 100, 7)
+
+SPLIT = ((3, (((1, 0, 0), (0, 1, 0)), ((1, 0, 0), (0, 0, 1)))), (0,), (1, 2))
+FORKED = (FORK, (0,), (3,))
+# In 1 becomes a tool, inner ware 2, by which in 0 becomes the out.
+TOOLED = ((4, (((0, 1, 0, 0), (0, 0, 1, 0)), ((1, 0, 1, 0), (0, 0, 1, 1)))), (0, 1), (3,))
+BOTH = ((5, (((1, 0, 0, 0, 0), (0, 1, 1, 0, 0)), ((0, 1, 0, 0, 0), (0, 0, 0, 1, 0)), ((0, 0, 1, 0, 0), (0, 0, 0, 0, 1)))),
+        (0,), (3, 4))
+LOOP = (3, (((0, 1), (1, 2)),), (0,), (2,))
+GIVES = (((((1, 1), (1, 2)),), (((1, 1), (1, 1)),)),)
+
+
+def rich_modules(many, seed, ins=(0, 3), inner=(0, 3), outs=(1, 3), deeds=(1, 6), top=3, part=0.4):
+    """Modules with as many ins, inner wares, outs and deeds as these bounds let, the same for the same seed."""
+    chance = Random(seed)
+    for _ in range(many):
+        counts = [chance.randint(*bounds) for bounds in (ins, inner, outs)]
+        size = sum(counts)
+        names = chance.sample(range(size), size)
+        own = (names[:counts[0]], names[counts[0]:size - counts[2]], names[size - counts[2]:])
+
+        def numbers(wares):
+            return tuple(
+                chance.randint(1, top) if ware in wares and chance.random() < part else 0 for ware in range(size))
+
+        made = tuple(
+            (numbers(own[0] + own[1]), numbers(own[1] + own[2])) for _ in range(chance.randint(*deeds)))
+        yield ((size, made), tuple(own[0]), tuple(own[2]))
+
+
+def forking_modules(many, seed, ins=(1, 3), inner=(0, 2), outs=(2, 3), deeds=(2, 5), top=3):
+    """Modules in which each deed takes one or two wares and gives as few, so that they differ in what they make."""
+    chance = Random(seed)
+    for _ in range(many):
+        counts = [chance.randint(*bounds) for bounds in (ins, inner, outs)]
+        size = sum(counts)
+        names = chance.sample(range(size), size)
+        taken, given = names[:size - counts[2]], names[counts[0]:]
+
+        def numbers(wares):
+            some = chance.sample(wares, min(len(wares), chance.choice((1, 1, 2))))
+            return tuple(chance.randint(1, top) if ware in some else 0 for ware in range(size))
+
+        made = tuple((numbers(taken), numbers(given)) for _ in range(chance.randint(*deeds)))
+        yield ((size, made), tuple(names[:counts[0]]), tuple(names[size - counts[2]:]))
+
+
+def some_wirings(many, seed, wires=6, seats=4, side=3):
+    """Wirings with rings and shared wires among them, the same for the same seed."""
+    chance = Random(seed)
+    while many:
+        size = chance.randint(1, wires)
+        made = tuple(
+            (tuple(chance.randrange(size) for _ in range(chance.randint(0, side))),
+             tuple(chance.randrange(size) for _ in range(chance.randint(1, side))))
+            for _ in range(chance.randint(0, seats)))
+        bare = [wire for wire in range(size) if not any(wire in seat[0] for seat in made)]
+        if not bare:
+            continue
+        outs = chance.sample(bare, chance.randint(1, min(3, len(bare))))
+        free = [wire for wire in range(size) if wire not in outs and not any(wire in seat[1] for seat in made)]
+        ins = chance.sample(free, chance.randint(0, min(3, len(free))))
+        many -= 1
+        yield (size, made, tuple(ins), tuple(outs))
+
+
+def some_weights(chance, many, top=3):
+    """Weights for so many outs, not all 0."""
+    sure = chance.randrange(many)
+    return tuple(chance.randint(1, top) if k == sure else chance.randint(0, top) for k in range(many))
+
+
+def summed(prices, weights):
+    """The sum of prices, each times its weight, None for endless."""
+    if any(price == ENDLESS and weight for price, weight in zip(prices, weights)):
+        return None
+    return sum(fraction(price) * weight for price, weight in zip(prices, weights) if weight)
+
+
+def plain(price):
+    """A price as a fraction, None for endless."""
+    return None if price == ENDLESS else fraction(price)

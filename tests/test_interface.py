@@ -76,6 +76,25 @@ FUNCTIONS = {
                 "doors_turned(module, in_order, out_order)"),
     "doormosts": ("door_most(module, weights, amounts)", "door_each(module, amounts)"),
     "doortariffs": ("door_tariff(module, door)", "door_tariffs(module)"),
+    "rightmodules": ("is_right_module(module)", "unkept_door(module)"),
+    "layers": ("layers_of(many, tariffs)", "joiner_of(weights)"),
+    "twins": ("has_twin(module)", "twin_of(module)"),
+    "makings": ("makes(module, amounts, goal)", "making_paper(module, amounts, goal)",
+                "lets_making(module, amounts, goal, thing)", "making_stretch(module, amounts, goal)"),
+    "alikes": ("alike_modules(module, other)", "modules_apart(module, other)", "lets_apart(module, other, thing)"),
+    "moduleclasses": ("read_module(text)",),
+    "wiringchecker": ("lets_wiring(thing)", "is_wiring(thing)", "is_house(thing)"),
+    "houses": ("house_of(wiring, *modules)", "flat_of(house)", "house_fill(house, fill)", "house_wish(house, weights)",
+               "with_module(house, seat, module)", "joined_house(module, weights)"),
+    "ways": ("shared_wires(wiring)", "heard_seats(wiring)", "is_safe(wiring)", "way_out(wiring, seat)",
+             "ring_seats(wiring)", "seat_order(wiring)"),
+    "breakings": ("breaking_of(wiring)", "lets_breaking(wiring, thing)"),
+    "reachedwires": ("is_tariffs(wiring, thing)", "reached_wires(wiring, tariffs, lot)"),
+    "linking": ("linked_most(wiring, tariffs, weights, fill)",),
+    "linkpapers": ("link_paper(wiring, tariffs, weights, fill)", "lets_link(wiring, tariffs, weights, fill, thing)"),
+    "linkflows": ("flow_paper(wiring, tariffs, weights, fill)", "lets_flow(wiring, tariffs, weights, fill, thing)",
+                  "endless_flow(wiring, tariffs, weights, fill)",
+                  "lets_endless_flow(wiring, tariffs, weights, fill, thing)"),
 }
 CLASSES = {
     ("bookclasses", "Book"): ("__init__(self, size, *deeds)", "change(self, deed)", "takers(self, ware)",
@@ -93,6 +112,10 @@ CLASSES = {
     ("shareclasses", "Share"): ("__init__(self, book, wish, hands)", "share(self)", "harmless(self)", "right(self)",
                                 "rows(self)", "sandwich(self, place)", "lose(self, near)", "keeps(self, take, give)",
                                 "told(self)", "__eq__(self, other)"),
+    ("moduleclasses", "Module"): ("__init__(self, book, ins, outs)", "most(self, weights, amounts)",
+                                  "each(self, amounts)", "tariff(self, door)", "right(self)", "twin(self)",
+                                  "makes(self, amounts, goal)", "like(self, other)", "told(self)", "line(self)",
+                                  "__eq__(self, other)"),
 }
 
 

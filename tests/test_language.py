@@ -18,7 +18,7 @@ NODES = {
 }
 BUILTINS = {
     "len", "range", "enumerate", "zip", "min", "max", "sum", "abs", "sorted", "reversed", "int", "str", "bool",
-    "list", "tuple", "dict", "isinstance", "ord", "repr", "any", "all", "divmod", "set", "ValueError",
+    "list", "tuple", "dict", "isinstance", "ord", "repr", "any", "all", "divmod", "set", "ValueError", "super",
 }
 METHODS = {
     "append", "copy", "count", "endswith", "extend", "find", "get", "index", "insert", "items", "join", "keys",
@@ -175,6 +175,13 @@ class LanguageTest(unittest.TestCase):
                     self.assertNotIn(node.attr, BARRED_NAMES)
                 if isinstance(node, ast.Call) and isinstance(node.func, ast.Name) and node.func.id in TAKERS:
                     self.assertFalse(any(isinstance(one, ast.GeneratorExp) for one in node.args))
+
+    def test_super(self):
+        for path, tree in trees():
+            calls = [node for node in ast.walk(tree) if isinstance(node, ast.Name) and node.id == "super"]
+            plainly = [node for function in functions(tree) if function.name == "__init__" for node in function.body
+                       if ast.unparse(node).startswith("super().__init__(")]
+            self.assertEqual(len(calls), len(plainly), path.name)
 
     def test_sets(self):
         for path, tree in trees():

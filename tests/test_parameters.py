@@ -7,15 +7,17 @@ from itertools import combinations
 
 from stillhad.bookclasses import Book
 from stillhad.errors import BookError, HadError, NotUsable
+from stillhad.moduleclasses import Module
 from stillhad.mostclasses import Mosts
 from stillhad.runclasses import Shelf
 from stillhad.shareclasses import Share
 from stillhad.tariffclasses import Tariff
-from tests.helpers import ENDLESS, FILL, FORK, HALF, NOUGHT, ONE, TWO, WISH, fields
+from tests.helpers import BOTH, ENDLESS, FILL, FORK, FORKED, GIVES, HALF, LOOP, NOUGHT, ONE, SPLIT, TWO, WISH, fields
 
 RUN = ((2, ((0, HALF), (1, HALF))),)
 ROWS = ((NOUGHT, TWO), (TWO, NOUGHT))
-SPLIT = ((3, (((1, 0, 0), (0, 1, 0)), ((1, 0, 0), (0, 0, 1)))), (0,), (1, 2))
+# SPLIT, and behind it a seat that takes both its outs.
+HOUSE = ((4, (((0,), (1, 2)), ((1, 2), (3,))), (0,), (3,)), (SPLIT, ((3, ()), (0, 1), (2,))))
 PAIR = ((2, ((0, HALF),)),)
 PLAIN = (4, (((1, 0, 0, 0), (0, 0, 0, 1)),))
 NOT_QUOTIENTS = ((2, 4), (0, 2), (1, 0), (0, 0), (-1, 2), (1, -2), (True, 1), (1, True), (1,), (1, 1, 1), [1, 1],
@@ -80,6 +82,19 @@ BAD["any row"] = (None, 5, "", [ONE], {}) + tuple((ENDLESS, one) for one in NOT_
 BAD["any lot"] = ([0], (1, 0), (0, 0), (-1,), (True,), ("0",), 0, None, "01")
 BAD["two places"] = ((0, 2), (0,), (0, 0), (0, 1, 2), [0, 1], (True, 0), (1, -1), None, 1, (0, None))
 BAD["one place"] = ((1,), (), (0, 0), [0], (False,), None, 0)
+BAD["module"] = (None, (), FORKED, SPLIT[0], [*SPLIT], (SPLIT[0], (), (1, 2)), (SPLIT[0], (0,), (1, 1)), 0,
+                 (SPLIT[0], (0,), (2,)), (FORK, (0,), (3, 1)))
+BAD["door tariffs"] = (None, (), [((ONE,),)], ((ONE,),), (((ONE,), (ONE,)),), (((TWO,), (ONE,)),), (((ONE, ONE),),), ((ONE,), None),
+                       (None,), 0)
+BAD["some weights"] = ((), (0,), (0, 0, 0), [1], (1, True), (1, -1), (1, None), None, 1, "1", (ONE,))
+BAD["out weight"] = bent((1,), (-1, True, None, "0", (0, 1))) + [(0,), (0, 1)]
+BAD["wires"] = bent(FILL[:3], NOT_QUOTIENTS)
+BAD["four wires"] = BAD["fill"]
+BAD["wire lot"] = ([0], (1, 0), (0, 0), (3,), (-1,), (True,), ("0",), 0, None, "01")
+BAD["seat"] = (2, -1, True, False, None, "0", (0,), 10 ** 30)
+BAD["one seat"] = (1,) + BAD["seat"]
+BAD["links"] = (None, (), [*GIVES], GIVES * 2, (GIVES[0][:1],), ([*GIVES[0]],), (GIVES[0] + ((),),), (((), ((ONE,),)),),
+                (((), None),), (((), ((TWO, ONE), (ONE, ONE))),), 0)
 
 # File, function, what is passed in as stated, and then parameter, kind and a good value of each judged one.
 CASES = (
@@ -245,6 +260,51 @@ CASES = (
      (("weights", "out weights", (2, 0)), ("amounts", "in amounts", (HALF,)))),
     ("doormosts", "door_each", {"module": SPLIT}, (("amounts", "in amounts", (HALF,)),)),
     ("doortariffs", "door_tariff", {"module": SPLIT}, (("door", "place", 1),)),
+    ("layers", "layers_of", {}, (("many", "count", 1), ("tariffs", "door tariffs", (((ONE,),), ())))),
+    ("layers", "joiner_of", {}, (("weights", "some weights", (0, 2, 0)),)),
+    ("makings", "makes", {"module": SPLIT}, (("amounts", "in amounts", (HALF,)), ("goal", "weights", (ONE, NOUGHT)))),
+    ("makings", "making_paper", {"module": SPLIT},
+     (("amounts", "in amounts", (HALF,)), ("goal", "weights", (ONE, NOUGHT)))),
+    ("makings", "lets_making", {"module": SPLIT, "thing": None},
+     (("amounts", "in amounts", (HALF,)), ("goal", "weights", (ONE, NOUGHT)))),
+    ("makings", "making_stretch", {"module": SPLIT},
+     (("amounts", "in amounts", (HALF,)), ("goal", "weights", (ONE, NOUGHT)))),
+    ("alikes", "alike_modules", {"module": SPLIT}, (("other", "module", BOTH),)),
+    ("alikes", "modules_apart", {"module": SPLIT}, (("other", "module", BOTH),)),
+    ("alikes", "lets_apart", {"module": SPLIT, "thing": None}, (("other", "module", BOTH),)),
+    ("moduleclasses", "read_module", {}, (("text", "text", "- > 0 | 1"),)),
+    ("houses", "house_fill", {"house": HOUSE}, (("fill", "four wires", FILL),)),
+    ("houses", "house_wish", {"house": HOUSE}, (("weights", "out weight", (2,)),)),
+    ("houses", "with_module", {"house": HOUSE}, (("seat", "seat", 0), ("module", "module", BOTH))),
+    ("houses", "joined_house", {"module": SPLIT}, (("weights", "out weights", (2, 0)),)),
+    ("ways", "way_out", {"wiring": HOUSE[0]}, (("seat", "seat", 0),)),
+    ("ways", "way_out", {"wiring": LOOP}, (("seat", "one seat", 0),)),
+    ("breakings", "lets_breaking", {"wiring": LOOP, "thing": None}, ()),
+    ("reachedwires", "reached_wires", {"wiring": LOOP}, (("tariffs", "links", GIVES), ("lot", "wire lot", (0, 2)))),
+    ("linking", "linked_most", {"wiring": LOOP},
+     (("tariffs", "links", GIVES), ("weights", "out weight", (2,)), ("fill", "wires", FILL[:3]))),
+    ("linkpapers", "link_paper", {"wiring": LOOP},
+     (("tariffs", "links", GIVES), ("weights", "out weight", (2,)), ("fill", "wires", FILL[:3]))),
+    ("linkpapers", "lets_link", {"wiring": LOOP, "thing": None},
+     (("tariffs", "links", GIVES), ("weights", "out weight", (2,)), ("fill", "wires", FILL[:3]))),
+    ("linkflows", "flow_paper", {"wiring": LOOP},
+     (("tariffs", "links", GIVES), ("weights", "out weight", (2,)), ("fill", "wires", FILL[:3]))),
+    ("linkflows", "lets_flow", {"wiring": LOOP, "thing": None},
+     (("tariffs", "links", GIVES), ("weights", "out weight", (2,)), ("fill", "wires", FILL[:3]))),
+    ("linkflows", "endless_flow", {"wiring": LOOP},
+     (("tariffs", "links", GIVES), ("weights", "out weight", (2,)), ("fill", "wires", FILL[:3]))),
+    ("linkflows", "lets_endless_flow", {"wiring": LOOP, "thing": None},
+     (("tariffs", "links", GIVES), ("weights", "out weight", (2,)), ("fill", "wires", FILL[:3]))),
+)
+
+# The functions of which no parameter is judged, with what may be passed in.
+UNJUDGED = (
+    ("rightmodules", "is_right_module", (SPLIT,)), ("rightmodules", "unkept_door", (FORKED,)),
+    ("twins", "has_twin", (SPLIT,)), ("twins", "twin_of", (FORKED,)), ("wiringchecker", "lets_wiring", (LOOP,)),
+    ("wiringchecker", "is_wiring", ([LOOP],)), ("wiringchecker", "is_house", (HOUSE,)), ("houses", "flat_of", (HOUSE,)),
+    ("houses", "house_of", (HOUSE[0], *HOUSE[1])), ("ways", "shared_wires", (LOOP,)), ("ways", "heard_seats", (HOUSE[0],)),
+    ("ways", "is_safe", (LOOP,)), ("ways", "ring_seats", (LOOP,)), ("ways", "seat_order", (HOUSE[0],)),
+    ("breakings", "breaking_of", ((2, (((0, 0), (1,)),), (0,), (1,)),)), ("reachedwires", "is_tariffs", (LOOP, [GIVES])),
 )
 
 
@@ -275,6 +335,11 @@ def all_cases():
     yield Tariff(2, *ROWS).least, {}, (("fill", "two", (ONE, HALF)),)
     yield Tariff(2, *ROWS).spot, {}, (("place", "place", 1),)
     yield Tariff(2, *ROWS).cut, {}, (("lot", "things", (1,)),)
+    module = Module(*SPLIT)
+    yield module.most, {}, (("weights", "out weights", (0, 3)), ("amounts", "in amounts", (HALF,)))
+    yield module.each, {}, (("amounts", "in amounts", (HALF,)),)
+    yield module.tariff, {}, (("door", "place", 1),)
+    yield module.makes, {}, (("amounts", "in amounts", (HALF,)), ("goal", "weights", (ONE, NOUGHT)))
 
 
 class ParametersTest(unittest.TestCase):
@@ -307,6 +372,13 @@ class ParametersTest(unittest.TestCase):
                 except HadError as error:
                     told.append((error.__class__, fields(error)))
             self.assertEqual(told[0], told[1], call)
+            self.assertEqual(values, before)
+
+    def test_twice_where_nothing_is_judged(self):
+        for file, name, values in UNJUDGED:
+            call = getattr(importlib.import_module("stillhad." + file), name)
+            before = deepcopy(values)
+            self.assertEqual(call(*values), call(*values), name)
             self.assertEqual(values, before)
 
     def test_each(self):
