@@ -13,7 +13,11 @@ def best_flux(book, wish, fill):
     If the most is endless, the row is None, and the flux lowers no ware and adds to the worth.
     All deeds of the flux are within the closed lot from the support of the fill.
     """
-    lot = closed_from(book, support_of(fill))
+    return best_flux_in(book, wish, fill, closed_from(book, support_of(fill)))
+
+
+def best_flux_in(book, wish, fill, lot):
+    """As best_flux, but with the deeds within the closed lot, which holds the support of the fill."""
     inside = within_of(book, lot)
     bottom = common_bottom(fill)
     amounts = tops_over(fill, bottom)

@@ -71,6 +71,16 @@ def support_of(fill):
     return tuple([ware for ware, amount in enumerate(fill) if amount[0] > 0])
 
 
+def lots_together(lot, other):
+    """The lot of all things of both lots."""
+    return tuple(sorted(set(lot + other)))
+
+
+def is_open_at(row, lot):
+    """Whether the row is open at all things of the lot."""
+    return all([row[thing] != ENDLESS for thing in lot])
+
+
 def fill_plus(fill, other):
     """The sum of two fills."""
     need(is_fill(len(fill), other), "other")

@@ -263,6 +263,24 @@ def forking_modules(many, seed, ins=(1, 3), inner=(0, 2), outs=(2, 3), deeds=(2,
         yield ((size, made), tuple(names[:counts[0]]), tuple(names[size - counts[2]:]))
 
 
+def lively_books(many, seed, wares=5, deeds=5, top=3):
+    """Books that mostly lead on to the last ware, some by tools, so that mosts differ and are seldom endless."""
+    chance = Random(seed)
+    for _ in range(many):
+        size = chance.randint(3, wares)
+        made = []
+        for _ in range(chance.randint(2, deeds)):
+            gone = chance.sample(range(size - 1), min(size - 1, chance.choice((1, 1, 2))))
+            take = [chance.randint(1, top) if ware in gone else 0 for ware in range(size)]
+            give = [0] * size
+            give[chance.randint(max(gone) + 1, size - 1)] = chance.randint(1, top)
+            if chance.random() < 0.35:
+                tool = chance.randrange(size - 1)
+                take[tool] = give[tool] = 1
+            made.append((tuple(take), tuple(give)))
+        yield (size, tuple(made))
+
+
 def some_wirings(many, seed, wires=6, seats=4, side=3):
     """Wirings with rings and shared wires among them, the same for the same seed."""
     chance = Random(seed)

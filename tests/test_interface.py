@@ -95,6 +95,18 @@ FUNCTIONS = {
     "linkflows": ("flow_paper(wiring, tariffs, weights, fill)", "lets_flow(wiring, tariffs, weights, fill, thing)",
                   "endless_flow(wiring, tariffs, weights, fill)",
                   "lets_endless_flow(wiring, tariffs, weights, fill, thing)"),
+    "chaining": ("chained_tariffs(wiring, tariffs)",),
+    "swaps": ("can_swap(house, seat, module)", "parting_houses(module, other)"),
+    "housetexts": ("wiring_line(wiring)", "read_wiring(text)"),
+    "grains": ("grain_of(book, wish, fill, ware)", "grained_most(book, wish, fill, lot)"),
+    "courses": ("course_of(book, wish, fill, ware)",),
+    "buying": ("least_cost(book, wish, fill, worth, costs)", "bought_for(book, wish, fill, worth, costs)"),
+    "buypapers": ("cost_paper(book, wish, fill, worth, costs)", "lets_cost(book, wish, fill, worth, costs, thing)"),
+    "liveevents": ("is_event(size, thing)", "is_log(size, thing)"),
+    "reasons": ("reason_of(book, wish, fill, event)",),
+    "journals": ("replayed(book, wish, fill, log)", "cut_log(log, many)", "days_of(book, wish, fill, log)"),
+    "eventtexts": ("event_line(event)", "read_event(text)", "log_text(log)", "read_log(text)"),
+    "desk": ("desk_line(live, text)",),
 }
 CLASSES = {
     ("bookclasses", "Book"): ("__init__(self, size, *deeds)", "change(self, deed)", "takers(self, ware)",
@@ -116,6 +128,16 @@ CLASSES = {
                                   "each(self, amounts)", "tariff(self, door)", "right(self)", "twin(self)",
                                   "makes(self, amounts, goal)", "like(self, other)", "told(self)", "line(self)",
                                   "__eq__(self, other)"),
+    ("houseclasses", "House"): ("__init__(self, wiring, *modules)", "most(self, weights, fill)",
+                                "linked(self, weights, fill)", "flat(self)", "safe(self)", "swap(self, seat, module)",
+                                "told(self)", "__eq__(self, other)"),
+    ("liveasks", "LiveAsks"): ("__init__(self, book, wish, fill)", "stands(self)", "book_now(self)", "came(self)",
+                               "handed(self)", "most(self)", "still(self)", "at_first(self)", "done(self)", "share(self)",
+                               "losses(self)", "grain(self, ware)", "right(self)", "cost(self, worth, costs)"),
+    ("live", "LiveStore"): ("__init__(self, book, wish, fill)", "bring(self, ware, amount)", "do(self, deed, times)",
+                            "go(self, run)", "hand(self, ware, amount)", "learn(self, take, give)", "day(self)",
+                            "event(self, event)", "barred(self, event)", "do_all(self, events, keep=False)",
+                            "undo(self, steps=1)", "tried(self, events)", "log(self)", "__eq__(self, other)"),
 }
 
 

@@ -1,12 +1,16 @@
 """Each judged parameter is refused under its name, the first one first, by position or by name."""
 
 import importlib
+import inspect
 import unittest
 from copy import deepcopy
 from itertools import combinations
 
 from stillhad.bookclasses import Book
 from stillhad.errors import BookError, HadError, NotUsable
+from stillhad.houseclasses import House
+from stillhad.live import LiveStore
+from stillhad.liveasks import LiveAsks
 from stillhad.moduleclasses import Module
 from stillhad.mostclasses import Mosts
 from stillhad.runclasses import Shelf
@@ -95,6 +99,13 @@ BAD["seat"] = (2, -1, True, False, None, "0", (0,), 10 ** 30)
 BAD["one seat"] = (1,) + BAD["seat"]
 BAD["links"] = (None, (), [*GIVES], GIVES * 2, (GIVES[0][:1],), ([*GIVES[0]],), (GIVES[0] + ((),),), (((), ((ONE,),)),),
                 (((), None),), (((), ((TWO, ONE), (ONE, ONE))),), 0)
+BAD["log"] = (None, [], ("day",), (("day",), None), (("bring", 4, ONE),), (("do", -1, ONE),), 0, "")
+BAD["any tuple"] = (None, [], "", 0, {})
+BAD["many of one"] = (2, -1, True, None, "1", (1,))
+BAD["event"] = (None, (), ("day", 0), ("bring", -1, ONE), ["day"], "day", ("learn", (), ()), ("learn", WISH, (0,)), 0)
+BAD["any log"] = BAD["any tuple"] + tuple((("day",), one) for one in BAD["event"])
+BAD["events"] = BAD["any tuple"]
+BAD["steps"] = (-1, True, False, None, "1", (1,))
 
 # File, function, what is passed in as stated, and then parameter, kind and a good value of each judged one.
 CASES = (
@@ -295,6 +306,32 @@ CASES = (
      (("tariffs", "links", GIVES), ("weights", "out weight", (2,)), ("fill", "wires", FILL[:3]))),
     ("linkflows", "lets_endless_flow", {"wiring": LOOP, "thing": None},
      (("tariffs", "links", GIVES), ("weights", "out weight", (2,)), ("fill", "wires", FILL[:3]))),
+    ("chaining", "chained_tariffs", {"wiring": LOOP}, (("tariffs", "links", GIVES),)),
+    ("swaps", "can_swap", {"house": HOUSE}, (("seat", "seat", 0), ("module", "module", BOTH))),
+    ("swaps", "parting_houses", {"module": SPLIT}, (("other", "module", BOTH),)),
+    ("housetexts", "read_wiring", {}, (("text", "text", "1; - > 0"),)),
+    ("grains", "grain_of", {"book": FORK}, (("wish", "wish", WISH), ("fill", "fill", FILL), ("ware", "ware", 1))),
+    ("grains", "grained_most", {"book": FORK}, (("wish", "wish", WISH), ("fill", "fill", FILL), ("lot", "lot", (0, 1)))),
+    ("courses", "course_of", {"book": FORK}, (("wish", "wish", WISH), ("fill", "fill", FILL), ("ware", "ware", 1))),
+    ("buying", "least_cost", {"book": FORK},
+     (("wish", "wish", WISH), ("fill", "fill", FILL), ("worth", "quotient", TWO), ("costs", "row", (ONE,) * 4))),
+    ("buying", "bought_for", {"book": FORK},
+     (("wish", "wish", WISH), ("fill", "fill", FILL), ("worth", "quotient", TWO), ("costs", "row", (ENDLESS,) * 4))),
+    ("buypapers", "cost_paper", {"book": FORK},
+     (("wish", "wish", WISH), ("fill", "fill", FILL), ("worth", "quotient", TWO), ("costs", "row", (ONE,) * 4))),
+    ("buypapers", "lets_cost", {"book": FORK, "thing": None},
+     (("wish", "wish", WISH), ("fill", "fill", FILL), ("worth", "quotient", TWO), ("costs", "row", (ONE,) * 4))),
+    ("reasons", "reason_of", {"book": FORK, "event": None}, (("wish", "wish", WISH), ("fill", "fill", FILL))),
+    ("journals", "replayed", {"book": FORK},
+     (("wish", "wish", WISH), ("fill", "fill", FILL), ("log", "log", (("do", 0, ONE),)))),
+    ("journals", "days_of", {"book": FORK}, (("wish", "wish", WISH), ("fill", "fill", FILL), ("log", "log", (("day",),)))),
+    ("journals", "cut_log", {}, (("log", "any tuple", (None,)), ("many", "many of one", 1))),
+    ("eventtexts", "event_line", {}, (("event", "event", ("bring", 9, ONE)),)),
+    ("eventtexts", "read_event", {}, (("text", "text", "day"),)),
+    ("eventtexts", "log_text", {}, (("log", "any log", (("day",),)),)),
+    ("eventtexts", "read_log", {}, (("text", "text", ""),)),
+    ("desk", "desk_line", {},
+     (("live", "book", LiveStore(FORK, WISH, FILL)), ("text", "text", "fill"))),
 )
 
 # The functions of which no parameter is judged, with what may be passed in.
@@ -305,6 +342,7 @@ UNJUDGED = (
     ("houses", "house_of", (HOUSE[0], *HOUSE[1])), ("ways", "shared_wires", (LOOP,)), ("ways", "heard_seats", (HOUSE[0],)),
     ("ways", "is_safe", (LOOP,)), ("ways", "ring_seats", (LOOP,)), ("ways", "seat_order", (HOUSE[0],)),
     ("breakings", "breaking_of", ((2, (((0, 0), (1,)),), (0,), (1,)),)), ("reachedwires", "is_tariffs", (LOOP, [GIVES])),
+    ("housetexts", "wiring_line", (LOOP,)), ("liveevents", "is_event", (4, ["day"])), ("liveevents", "is_log", (4, [("day",)])),
 )
 
 
@@ -340,6 +378,19 @@ def all_cases():
     yield module.each, {}, (("amounts", "in amounts", (HALF,)),)
     yield module.tariff, {}, (("door", "place", 1),)
     yield module.makes, {}, (("amounts", "in amounts", (HALF,)), ("goal", "weights", (ONE, NOUGHT)))
+    house = House(HOUSE[0], *HOUSE[1])
+    yield house.most, {}, (("weights", "out weight", (2,)), ("fill", "four wires", FILL))
+    yield house.linked, {}, (("weights", "out weight", (2,)), ("fill", "four wires", FILL))
+    yield house.swap, {}, (("seat", "seat", 0), ("module", "module", BOTH))
+    yield LiveStore, {}, (("book", "book", FORK), ("wish", "wish", WISH), ("fill", "fill", FILL))
+    for kind in (LiveAsks, LiveStore):
+        asks = kind(FORK, WISH, FILL)
+        yield asks.grain, {}, (("ware", "ware", 2),)
+        yield asks.cost, {}, (("worth", "quotient", TWO), ("costs", "row", (ENDLESS,) * 4))
+    store = LiveStore(FORK, WISH, FILL)
+    yield store.do_all, {"keep": None}, (("events", "events", (None,)),)
+    yield store.tried, {}, (("events", "events", (("do", 0, ONE),)),)
+    yield store.undo, {}, (("steps", "steps", 0),)
 
 
 class ParametersTest(unittest.TestCase):
@@ -358,6 +409,24 @@ class ParametersTest(unittest.TestCase):
                 self.fail(f"{call} refuses {fields(error)}")
             except HadError:
                 pass
+
+    def told(self, call, *given, **named):
+        """What the call returns, or the error that it raises."""
+        try:
+            return call(*given, **named)
+        except HadError as error:
+            return (error.__class__, fields(error))
+
+    def test_positions_and_names(self):
+        for call, given, judged in all_cases():
+            if getattr(call, "__name__", "") in ("do", "go"):
+                continue
+            values = {**given, **{name: good for name, kind, good in judged}}
+            names = [name for name in inspect.signature(call).parameters if name in values]
+            self.assertEqual(len(names), len(values))
+            by_name = self.told(call, **{name: values[name] for name in names})
+            self.assertEqual(by_name, self.told(call, **{name: values[name] for name in reversed(names)}), call)
+            self.assertEqual(by_name, self.told(call, *[values[name] for name in names]), call)
 
     def test_twice(self):
         for call, given, judged in all_cases():
