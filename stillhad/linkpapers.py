@@ -25,7 +25,8 @@ def lets_link(wiring, tariffs, weights, fill, thing):
     if open_of(row) != reached:
         raise InvalidPaper("row", -1)
     for k, (wire, weight) in enumerate(zip(wiring[3], weights)):
-        if wire in reached and is_less(row[wire], (weight, 1)):
+        # At an out that is not reached the row is endless, so this asks of reached ones alone.
+        if is_less(row[wire], (weight, 1)):
             raise InvalidPaper("wish", k)
     for k, seat in enumerate(wiring[1]):
         check_sums(seat, tariffs[k], reached, row, quotients[k], k)

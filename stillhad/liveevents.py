@@ -8,7 +8,7 @@ from stillhad.runkinds import is_run_among, is_step_among
 
 def is_event(size, thing):
     """Whether thing is an event of the size."""
-    if not (isinstance(thing, tuple) and thing != () and isinstance(thing[0], str)):
+    if not isinstance(thing, tuple) or thing == ():
         return False
     word = thing[0]
     parts = thing[1:]

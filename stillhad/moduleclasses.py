@@ -8,7 +8,7 @@ from stillhad.doortariffs import door_tariff
 from stillhad.errors import InvalidRow
 from stillhad.judging import need
 from stillhad.makings import makes
-from stillhad.modulechecker import is_module, is_module_like
+from stillhad.modulechecker import is_module
 from stillhad.modules import module_of
 from stillhad.rightmodules import is_right_module
 from stillhad.textparts import is_numeral
@@ -50,7 +50,7 @@ class Module:
 
     def like(self, other):
         """Whether other, a Module with as many ins and outs, makes the same goals from the same amounts."""
-        need(isinstance(other, Module) and is_module_like(self._module, other._module), "other")
+        need(isinstance(other, Module), "other")
         return alike_modules(self._module, other._module)
 
     def told(self):
